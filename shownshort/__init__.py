@@ -1,0 +1,1 @@
+"""Shownshort: texts that are shown shortened."""

@@ -1,0 +1,33 @@
+"""What integers, signs and texts are, with the checks that several modules share."""
+
+from shownshort.errors import InvalidLength, InvalidText
+from shownshort.limits import MOST_LENGTH, MOST_TEXT
+
+SIGNS = ".0123456789abcdefghijklmnopqrstuvwxyz~"
+
+
+def is_integer(value, least, most):
+    """Tell whether the value is an integer from `least` to `most`."""
+    # To Python True and False are integers, to this package they are not.
+    if not isinstance(value, int) or isinstance(value, bool):
+        return False
+    return least <= value <= most
+
+
+def is_text(value, most):
+    """Tell whether the value is a string of at most `most` signs."""
+    if not isinstance(value, str) or len(value) > most:
+        return False
+    return all([character in SIGNS for character in value])
+
+
+def check_text(text):
+    """Refuse anything that is not a text of at most MOST_TEXT signs."""
+    if not is_text(text, MOST_TEXT):
+        raise InvalidText(text)
+
+
+def check_length(length):
+    """Refuse anything that is not a count up to MOST_LENGTH."""
+    if not is_integer(length, 0, MOST_LENGTH):
+        raise InvalidLength(length)
