@@ -1,6 +1,6 @@
-"""What integers, signs and texts are, with the checks that several modules share."""
+"""What integers, signs, texts and tuples of a size are, with the checks that several modules share."""
 
-from shownshort.errors import InvalidLength, InvalidText
+from shownshort.errors import InvalidLength, InvalidText, InvalidTexts
 from shownshort.limits import MOST_LENGTH, MOST_TEXT
 
 SIGNS = ".0123456789abcdefghijklmnopqrstuvwxyz~"
@@ -12,6 +12,11 @@ def is_integer(value, least, most):
     if not isinstance(value, int) or isinstance(value, bool):
         return False
     return least <= value <= most
+
+
+def is_tuple(value, least, most):
+    """Tell whether the value is a tuple with `least` to `most` parts."""
+    return isinstance(value, tuple) and least <= len(value) <= most
 
 
 def is_text(value, most):
@@ -31,3 +36,12 @@ def check_length(length):
     """Refuse anything that is not a count up to MOST_LENGTH."""
     if not is_integer(length, 0, MOST_LENGTH):
         raise InvalidLength(length)
+
+
+def check_texts(texts, most):
+    """Refuse anything that is not a tuple of at most `most` texts with at most MOST_TEXT signs each."""
+    if not is_tuple(texts, 0, most):
+        raise InvalidTexts(None)
+    for place, text in enumerate(texts):
+        if not is_text(text, MOST_TEXT):
+            raise InvalidTexts(place)

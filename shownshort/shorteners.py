@@ -1,7 +1,7 @@
 """Shorteners, rows of them, and what they show."""
 
 from shownshort.errors import InvalidMark, InvalidNumber, InvalidRow
-from shownshort.kinds import check_length, check_text, is_integer, is_text
+from shownshort.kinds import check_length, check_text, is_integer, is_text, is_tuple
 from shownshort.limits import MOST_MARK, MOST_ROW, MOST_SIGNS
 
 
@@ -27,9 +27,14 @@ class Shortener:
         return f"Shortener({self.limit}, {self.head}, {self.tail}, {self.mark!r})"
 
 
+def is_row(value):
+    """Tell whether the value is a tuple of 1 to MOST_ROW shorteners."""
+    return is_tuple(value, 1, MOST_ROW) and all([isinstance(part, Shortener) for part in value])
+
+
 def check_row(row):
     """Refuse anything that is not a tuple of 1 to MOST_ROW shorteners."""
-    if not isinstance(row, tuple) or not 1 <= len(row) <= MOST_ROW:
+    if not is_tuple(row, 1, MOST_ROW):
         raise InvalidRow(None)
     for place, shortener in enumerate(row):
         if not isinstance(shortener, Shortener):
@@ -51,6 +56,14 @@ def planned(row, length):
     for shortener in row:
         sources = shortened(shortener, sources, tuple(shortener.mark))
     return sources
+
+
+def telling_lengths():
+    """Return, in ascending order, the lengths whose plans tell the plans for all lengths."""
+    # Every first shortener cuts a text with more than MOST_SIGNS signs, and takes no sign but the first
+    # and the last MOST_SIGNS ones. With twice as many signs or more, none of these is both; so the last
+    # length stands for all greater ones: only the places that are counted from the end move on with it.
+    return list(range(2 * MOST_SIGNS + 1))
 
 
 def show(row, text):

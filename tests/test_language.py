@@ -1,6 +1,7 @@
 """The rules of the language that can be seen file by file, and where the interface has to be defined."""
 
 import ast
+import builtins
 import pathlib
 import re
 import unittest
@@ -20,6 +21,19 @@ INTERFACE = {
         "Shortener": ["limit", "head", "tail", "mark"], "show": ["row", "text"], "plan": ["row", "length"],
         "widest": ["row"],
     },
+    "samples": {"sample_row": [], "sample_namer": []},
+    "alike": {
+        "first_unlike": ["row", "other_row"], "are_alike": ["row", "other_row"], "first_unstable": ["row"],
+        "is_stable": ["row"],
+    },
+    "views": {
+        "lengths": ["views"], "signs": ["views", "length"], "number_of": ["views", "length"], "only_text": ["views"],
+        "least_text": ["views"],
+    },
+    "names": {
+        "Namer": ["rule", "width"], "names": ["namer", "texts"], "meeting": ["namer", "texts"],
+        "possible_names": ["namer", "texts", "place"],
+    },
 }
 
 BARRED_WORDS = (
@@ -27,6 +41,28 @@ BARRED_WORDS = (
     "Protocol", "ABC", "ABCMeta", "namedtuple", "NamedTuple", "TypedDict", "TYPE_CHECKING", "abstractmethod",
 )
 BARRED_ANYWHERE = ("dataclass", "overload", "contextmanager")
+# L8, without `chr` (L27), and `print`, which only `__main__.py` may use.
+BUILTINS = set(
+    "len range enumerate zip min max sum abs sorted reversed int str bool bytes list tuple dict set frozenset isinstance ord"
+    " repr any all divmod Exception ValueError TypeError KeyError IndexError LookupError ZeroDivisionError ArithmeticError"
+    " OverflowError RuntimeError NotImplementedError AttributeError StopIteration NotImplemented iter next super property"
+    " staticmethod classmethod object".split()
+)
+# The first list of L25, without those of bytes.
+METHODS = set(
+    "append clear copy count endswith extend find get index insert isalnum isalpha isdigit islower isspace isupper items join"
+    " keys ljust lower lstrip partition pop remove replace reverse rfind rjust rpartition rsplit rstrip setdefault split"
+    " splitlines startswith strip update upper values zfill bit_length".split()
+)
+# L17: what no name of any kind is, and what no variable, function, class or method is.
+NEVER_NAMES = set("register mro elements open input law version_info with_traceback add_note".split())
+NOT_NAMES = set(
+    "attrgetter breakpoint builtins compile copyright credits delattr dir eval exec exit gc getattr globals hasattr help id"
+    " importlib license locals methodcaller os quit setattr super type vars sys".split()
+)
+BARRED_NODES = (
+    ast.Global, ast.AsyncFunctionDef, ast.AsyncFor, ast.AsyncWith, ast.Await, ast.Import, ast.MatMult,
+)
 ALLOWED_DUNDERS = ("__init__", "__eq__", "__repr__", "__str__", "__len__", "__enter__", "__exit__", "__call__", "__iter__")
 
 
@@ -106,6 +142,106 @@ class CodeTest(unittest.TestCase):
             for bound in bound_names(tree):
                 with self.subTest(name, bound=bound):
                     self.assertTrue(bound in ALLOWED_DUNDERS or not bound.startswith("_"))
+
+    def test_only_builtins_of_the_language(self):
+        for name, tree in trees().items():
+            for node in ast.walk(tree):
+                if isinstance(node, ast.Name) and hasattr(builtins, node.id):
+                    with self.subTest(name, line=node.lineno):
+                        self.assertIn(node.id, BUILTINS)
+
+    def test_no_barred_names_and_no_names_of_builtins(self):
+        for name, tree in trees().items():
+            attributes = {node.attr for node in ast.walk(tree) if isinstance(node, ast.Attribute)}
+            with self.subTest(name):
+                self.assertEqual(set(bound_names(tree)) & NEVER_NAMES, set())
+                bound = set(bound_names(tree)) - attributes - set(ALLOWED_DUNDERS)
+                self.assertEqual({word for word in bound if word in NOT_NAMES or hasattr(builtins, word)}, set())
+
+    def test_only_methods_of_the_language(self):
+        package = trees()
+        own = {
+            part.name
+            for tree in package.values() for node in ast.walk(tree) if isinstance(node, ast.ClassDef)
+            for part in node.body if isinstance(part, ast.FunctionDef)
+        }
+        for name, tree in package.items():
+            for node in ast.walk(tree):
+                if isinstance(node, ast.Call) and isinstance(node.func, ast.Attribute):
+                    with self.subTest(name, line=node.lineno):
+                        self.assertIn(node.func.attr, METHODS | own)
+
+    def test_plain_module_level(self):
+        for name, tree in trees().items():
+            bound = []
+            for at, top in enumerate(tree.body):
+                with self.subTest(name, line=top.lineno):
+                    if isinstance(top, ast.ImportFrom):
+                        bound += [alias.asname or alias.name for alias in top.names]
+                    elif isinstance(top, (ast.FunctionDef, ast.ClassDef)):
+                        bound.append(top.name)
+                    elif isinstance(top, ast.Assign):
+                        self.assertEqual(len(top.targets), 1)
+                        bound.append(top.targets[0].id)
+                        ast.literal_eval(top.value)
+                    else:
+                        self.assertEqual(at, 0)
+                        self.assertIsInstance(top.value.value, str)
+            self.assertEqual(len(bound), len(set(bound)))
+
+    def test_no_local_name_is_a_class_or_an_import(self):
+        for name, tree in trees().items():
+            imports = {alias.name for top in tree.body if isinstance(top, ast.ImportFrom) for alias in top.names}
+            classes = {top.name for top in tree.body if isinstance(top, ast.ClassDef)}
+            functions = [node for node in ast.walk(tree) if isinstance(node, ast.FunctionDef)]
+            for function in functions:
+                inner = [part for statement in function.body for part in ast.walk(statement)] + function.args.args
+                local = {part.id for part in inner if isinstance(part, ast.Name) and isinstance(part.ctx, ast.Store)}
+                local |= {part.arg for part in inner if isinstance(part, ast.arg)}
+                with self.subTest(name, function=function.name):
+                    self.assertEqual(local & (imports | classes), set())
+
+    def test_no_two_files_import_from_each_other(self):
+        imported = {
+            name: {node.module.partition(".")[2] for node in ast.walk(tree) if isinstance(node, ast.ImportFrom)}
+            for name, tree in trees().items()
+        }
+        while imported:
+            done = {name for name, needed in imported.items() if not needed & set(imported)}
+            self.assertTrue(done, imported)
+            imported = {name: needed for name, needed in imported.items() if name not in done}
+
+    def test_sets_and_lists_stand_where_they_may(self):
+        for name, tree in trees().items():
+            for node in ast.walk(tree):
+                if not isinstance(node, ast.Call) or not isinstance(node.func, ast.Name):
+                    continue
+                with self.subTest(name, line=node.lineno):
+                    if node.func.id in ("any", "all", "min", "max", "sum", "sorted"):
+                        self.assertFalse([part for part in node.args if isinstance(part, ast.GeneratorExp)])
+                    if node.func.id == "set":
+                        holders = [
+                            other for other in ast.walk(tree)
+                            if isinstance(other, ast.Call) and isinstance(other.func, ast.Name)
+                            and other.func.id in ("sorted", "len") and node in other.args
+                        ]
+                        self.assertEqual(len(holders), 1)
+
+    def test_no_barred_parts(self):
+        for name, tree in trees().items():
+            for node in ast.walk(tree):
+                with self.subTest(name, line=getattr(node, "lineno", 0)):
+                    self.assertNotIsInstance(node, BARRED_NODES)
+                    if isinstance(node, ast.FunctionDef):
+                        self.assertEqual(node.args.posonlyargs, [])
+                    if isinstance(node, ast.Compare):
+                        barred = [part for part in node.ops if isinstance(part, (ast.Is, ast.IsNot))]
+                        worths = [part.value for part in node.comparators if isinstance(part, ast.Constant)]
+                        self.assertTrue(not barred or worths and all(worth in (None, True, False) for worth in worths))
+                    if isinstance(node, ast.BinOp) and isinstance(node.op, ast.Pow):
+                        self.assertIsInstance(node.right, ast.Constant)
+                    if isinstance(node, ast.Constant) and isinstance(node.value, str):
+                        self.assertNotIn(chr(37), node.value)
 
     def test_no_floats_and_no_division(self):
         for name, tree in trees().items():

@@ -3,7 +3,7 @@ import unittest
 
 from shownshort.errors import InvalidMark, InvalidNumber
 from shownshort.shorteners import Shortener
-from tests.helper import SIGNS, WITHOUT_SIGNS, assert_refused
+from tests.helper import SIGNS, WITHOUT_SIGNS, assert_equal_both_ways, assert_refused
 
 TOLD = (
     (8, 3, 2, "..."), (0, 0, 0, ""), (40, 40, 40, "~~~"), (0, 40, 0, "a"), (40, 0, 40, "0z"), (1, 2, 3, "..."),
@@ -61,25 +61,19 @@ class ShortenerTest(unittest.TestCase):
 
 
 class ComparedTest(unittest.TestCase):
-    def assert_equal_both_ways(self, one, other, equal):
-        self.assertIs(one == other, equal)
-        self.assertIs(other == one, equal)
-        self.assertIs(one != other, not equal)
-        self.assertIs(other != one, not equal)
-
     def test_equal_just_with_the_same_four_properties(self):
         for told, other in itertools.product(TOLD, repeat=2):
             with self.subTest(told, other=other):
-                self.assert_equal_both_ways(Shortener(*told), Shortener(*other), told == other)
+                assert_equal_both_ways(self, Shortener(*told), Shortener(*other), told == other)
 
     def test_each_property_counts(self):
         short = Shortener(8, 3, 2, "ab")
         for told in ((9, 3, 2, "ab"), (8, 4, 2, "ab"), (8, 3, 1, "ab"), (8, 3, 2, "ba"), (8, 3, 2, "a")):
             with self.subTest(told):
-                self.assert_equal_both_ways(short, Shortener(*told), False)
+                assert_equal_both_ways(self, short, Shortener(*told), False)
 
     def test_showing_the_same_is_not_enough(self):
-        self.assert_equal_both_ways(Shortener(5, 5, 0, ""), Shortener(4, 5, 0, ""), False)
+        assert_equal_both_ways(self, Shortener(5, 5, 0, ""), Shortener(4, 5, 0, ""), False)
 
     def test_equal_to_nothing_else(self):
         for told in TOLD:
@@ -90,7 +84,7 @@ class ComparedTest(unittest.TestCase):
             )
             for other in others:
                 with self.subTest(told, other=repr(other)):
-                    self.assert_equal_both_ways(short, other, False)
+                    assert_equal_both_ways(self, short, other, False)
 
     def test_rows_compare_by_their_shorteners(self):
         row = (Shortener(8, 3, 2, "..."), Shortener(0, 0, 0, ""))

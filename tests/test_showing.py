@@ -4,7 +4,8 @@ import unittest
 from shownshort.errors import InvalidLength, InvalidRow, InvalidText
 from shownshort.shorteners import Shortener, plan, show, widest
 from tests.helper import (
-    SIGNS, WITHOUT_SIGNS, assert_examples_hold, assert_refused, filled, modelled_row, text_of,
+    NO_LENGTHS, NO_TEXTS, ROW, SHORT, SIGNS, assert_examples_hold, assert_refused, filled, modelled_row, text_of,
+    wrong_rows,
 )
 
 EXAMPLES = r"""
@@ -16,27 +17,12 @@ EXAMPLES = r"""
 ['abc~bcd', 7, '~..hi']
 """
 
-SHORT = Shortener(8, 3, 2, "...")
-ROW = (SHORT,)
 # Few enough for all rows of them, and as different as can be: nothing shown, overlaps, each number at its ends.
 MIXED = (
     SHORT, Shortener(0, 0, 0, ""), Shortener(2, 3, 3, "~"), Shortener(6, 0, 4, "0a"), Shortener(40, 40, 1, ""),
     Shortener(39, 40, 40, "z.z"),
 )
 ROWS = [row for many in range(1, 5) for row in itertools.product(MIXED, repeat=many)]
-
-NO_ROWS = (
-    None, 0, 1, True, "", "abc", b"", [], [SHORT], [SHORT] * 4, {}, {SHORT.told: SHORT}, set(), SHORT, Shortener,
-    object(), (), ROW * 5, ROW * 6, (None,) * 5, ROW * 4 + (None,), ("a",) + ROW * 4,
-)
-NO_SHORTENERS = (None, 0, True, "", "abc", SHORT.told, ROW, [SHORT], {}, Shortener, object())
-NO_TEXTS = WITHOUT_SIGNS + (
-    text_of(201), "a" * 400, text_of(199) + "A", "A" + text_of(199), text_of(100) + " " + text_of(99), b"", b"abc", 0, 7,
-    True, False, None, (), ("a",), [], ["a", "b"], {}, {"a": "b"}, {"a"}, str, object(), SHORT, ROW,
-)
-NO_LENGTHS = (
-    -1, 501, -500, 10 ** 19, True, False, None, "", "5", "abc", b"5", (), (5,), [], [5], {}, {5}, int, object(), SHORT,
-)
 
 
 class ShowTest(unittest.TestCase):
@@ -222,24 +208,10 @@ class RefusedTest(unittest.TestCase):
         assert_refused(self, InvalidRow, "index", index, widest, row)
         assert_refused(self, InvalidRow, "index", index, widest, row=row)
 
-    def test_no_tuple_or_a_wrong_number_of_shorteners(self):
-        for row in NO_ROWS:
+    def test_rows(self):
+        for row, index in wrong_rows():
             with self.subTest(repr(row)):
-                self.assert_row_refused(row, None)
-
-    def test_a_wrong_one_at_each_place(self):
-        for many in range(1, 5):
-            for place in range(many):
-                for wrong in NO_SHORTENERS:
-                    with self.subTest(many=many, place=place, wrong=repr(wrong)):
-                        self.assert_row_refused(ROW * place + (wrong,) + ROW * (many - place - 1), place)
-
-    def test_the_first_of_several_wrong_ones(self):
-        self.assert_row_refused((None, None), 0)
-        self.assert_row_refused(SHORT.told, 0)
-        self.assert_row_refused((SHORT, None, SHORT, None), 1)
-        self.assert_row_refused((SHORT, SHORT, "a", 3), 2)
-        self.assert_row_refused((SHORT, SHORT.told, [], ROW), 1)
+                self.assert_row_refused(row, index)
 
     def test_texts(self):
         for text in NO_TEXTS:
