@@ -1,6 +1,6 @@
 """Rows that show the same for every text, and rows that change nothing when they are applied again."""
 
-from shownshort.kinds import SIGNS
+from shownshort.kinds import SIGNS, least_raised_at
 from shownshort.shorteners import check_row, planned, telling_lengths
 
 
@@ -25,8 +25,7 @@ def least_difference(sources, others, length):
         return least
     # The plans differ only where a place stands against another one or against the smallest sign. As long
     # as all these places hold the smallest sign nothing differs, and the last of them alone is enough.
-    last = max(differing_places(sources, others))
-    return SIGNS[0] * last + SIGNS[1] + SIGNS[0] * (length - last - 1)
+    return least_raised_at(length, max(differing_places(sources, others)))
 
 
 def first_difference(shorteners, others):

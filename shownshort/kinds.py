@@ -1,7 +1,7 @@
 """What integers, signs, texts and tuples of a size are, with the checks that several modules share."""
 
-from shownshort.errors import InvalidLength, InvalidText, InvalidTexts
-from shownshort.limits import MOST_LENGTH, MOST_TEXT
+from shownshort.errors import InvalidLength, InvalidMark, InvalidText, InvalidTexts
+from shownshort.limits import MOST_LENGTH, MOST_MARK, MOST_TEXT
 
 SIGNS = ".0123456789abcdefghijklmnopqrstuvwxyz~"
 
@@ -24,6 +24,17 @@ def is_text(value, most):
     if not isinstance(value, str) or len(value) > most:
         return False
     return all([character in SIGNS for character in value])
+
+
+def least_raised_at(length, place):
+    """Return the smallest text with this length that does not have the smallest sign at the place."""
+    return SIGNS[0] * place + SIGNS[1] + SIGNS[0] * (length - place - 1)
+
+
+def check_mark(mark):
+    """Refuse anything that is not a string of at most MOST_MARK signs."""
+    if not is_text(mark, MOST_MARK):
+        raise InvalidMark(mark)
 
 
 def check_text(text):

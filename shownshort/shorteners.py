@@ -1,8 +1,8 @@
 """Shorteners, rows of them, and what they show."""
 
-from shownshort.errors import InvalidMark, InvalidNumber, InvalidRow
-from shownshort.kinds import check_length, check_text, is_integer, is_text, is_tuple
-from shownshort.limits import MOST_MARK, MOST_ROW, MOST_SIGNS
+from shownshort.errors import InvalidNumber, InvalidRow
+from shownshort.kinds import check_length, check_mark, check_text, is_integer, is_tuple
+from shownshort.limits import MOST_ROW, MOST_SIGNS
 
 
 class Shortener:
@@ -12,8 +12,7 @@ class Shortener:
         for number in (limit, head, tail):
             if not is_integer(number, 0, MOST_SIGNS):
                 raise InvalidNumber(number)
-        if not is_text(mark, MOST_MARK):
-            raise InvalidMark(mark)
+        check_mark(mark)
         self.limit = limit
         self.head = head
         self.tail = tail
@@ -50,6 +49,14 @@ def shortened(shortener, whole, mark):
     return whole[:shortener.head] + mark + whole[tail_start:]
 
 
+def shown_by(row, text):
+    """Return what a row shows of a text with any number of signs; neither is checked."""
+    shown = text
+    for shortener in row:
+        shown = shortened(shortener, shown, shortener.mark)
+    return shown
+
+
 def planned(row, length):
     """Return the plan of a row for a length; neither is checked."""
     sources = tuple(range(length))
@@ -70,10 +77,7 @@ def show(row, text):
     """Return what the row shows of the text."""
     check_row(row)
     check_text(text)
-    shown = text
-    for shortener in row:
-        shown = shortened(shortener, shown, shortener.mark)
-    return shown
+    return shown_by(row, text)
 
 
 def plan(row, length):

@@ -6,7 +6,8 @@ from shownshort.alike import are_alike, first_unlike, first_unstable, is_stable
 from shownshort.errors import InvalidRow
 from shownshort.shorteners import Shortener, plan
 from tests.helper import (
-    ROW, SHORT, SIGNS, assert_examples_hold, assert_refused, modelled_row, small_rows, texts_up_to, wrong_rows,
+    ROW, SHORT, SIGNS, assert_examples_hold, assert_refused, great_rows, modelled_row, one, small_rows, texts_up_to,
+    wrong_rows,
 )
 
 EXAMPLES = r"""
@@ -23,10 +24,6 @@ EXAMPLES = r"""
 BEYOND = 130
 # Changes nothing behind a row that shows at most 40 signs.
 IDLE = Shortener(40, 0, 0, "abc")
-
-
-def one(limit, head, tail, mark):
-    return (Shortener(limit, head, tail, mark),)
 
 
 def tried(texts, shown, others):
@@ -77,15 +74,6 @@ def changed(drawn, row):
     elif len(row) > 1:
         return row[:at] + row[at + 1:]
     return row[:at] + (Shortener(*told),) + row[at + 1:]
-
-
-def great_rows(drawn, many):
-    """Rows with numbers from 0 to 40, also with both of them."""
-    rows = []
-    for _ in range(many):
-        numbers = [[drawn.choice((0, 40, drawn.randint(0, 40))) for _ in range(3)] for _ in range(drawn.randint(1, 4))]
-        rows.append(tuple(Shortener(*told, drawn.choice(("", "~", ".", "..", "0a", "..."))) for told in numbers))
-    return rows
 
 
 class UnlikeTest(unittest.TestCase):

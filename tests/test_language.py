@@ -30,9 +30,24 @@ INTERFACE = {
         "lengths": ["views"], "signs": ["views", "length"], "number_of": ["views", "length"], "only_text": ["views"],
         "least_text": ["views"],
     },
+    "pairs": {"least_pair": ["row"], "number_shown": ["row", "length"]},
+    "lists": {
+        "member": ["kind", "mark", "width"], "groups": ["row", "texts"], "tells_apart": ["row", "texts"],
+        "widths": ["kind", "mark", "texts"], "narrowest": ["kind", "mark", "texts"], "fitting": ["mark", "seen"],
+    },
     "names": {
         "Namer": ["rule", "width"], "names": ["namer", "texts"], "meeting": ["namer", "texts"],
         "possible_names": ["namer", "texts", "place"],
+    },
+    "shelves": {"Shelf": ["namer"], "within": ["trial", "act"], "attempt": ["shelf", "act"]},
+}
+# What the interface lists for each class; each of them stands in the class itself.
+METHODS_OF = {
+    ("shorteners", "Shortener"): {"__eq__": ["other"], "__repr__": []},
+    ("names", "Namer"): {"__eq__": ["other"], "__repr__": []},
+    ("shelves", "Shelf"): {
+        "add": ["text"], "remove": ["name"], "do_all": ["*deeds", "watch"], "undo": [], "trial": [], "__len__": [],
+        "__repr__": [],
     },
 }
 
@@ -90,7 +105,23 @@ def parameters(node):
     if isinstance(node, ast.ClassDef):
         inits = [part for part in node.body if isinstance(part, ast.FunctionDef) and part.name == "__init__"]
         return parameters(inits[0])[1:] if inits else []
-    return [argument.arg for argument in node.args.args]
+    collected = ["*" + node.args.vararg.arg] if node.args.vararg else []
+    return [argument.arg for argument in node.args.args] + collected + [argument.arg for argument in node.args.kwonlyargs]
+
+
+def methods(node):
+    return {part.name: part for part in node.body if isinstance(part, ast.FunctionDef)}
+
+
+def classes_of(package):
+    return [node for tree in package.values() for node in ast.walk(tree) if isinstance(node, ast.ClassDef)]
+
+
+def is_attribute(node):
+    """Whether this is an attribute that a local name leads to."""
+    while isinstance(node, ast.Attribute):
+        node = node.value
+    return isinstance(node, ast.Name)
 
 
 class FilesTest(unittest.TestCase):
@@ -160,11 +191,7 @@ class CodeTest(unittest.TestCase):
 
     def test_only_methods_of_the_language(self):
         package = trees()
-        own = {
-            part.name
-            for tree in package.values() for node in ast.walk(tree) if isinstance(node, ast.ClassDef)
-            for part in node.body if isinstance(part, ast.FunctionDef)
-        }
+        own = {name for node in classes_of(package) for name in methods(node)}
         for name, tree in package.items():
             for node in ast.walk(tree):
                 if isinstance(node, ast.Call) and isinstance(node.func, ast.Attribute):
@@ -252,6 +279,73 @@ class CodeTest(unittest.TestCase):
                         self.assertNotIsInstance(node.value, (float, complex))
 
 
+class ClassesTest(unittest.TestCase):
+    def test_no_name_is_a_method_and_an_attribute(self):
+        package = trees()
+        named = {name for node in classes_of(package) for name in methods(node)}
+        assigned = {
+            node.attr for tree in package.values() for node in ast.walk(tree)
+            if isinstance(node, ast.Attribute) and isinstance(node.ctx, ast.Store)
+        }
+        self.assertEqual(named & assigned, set())
+        read = {
+            node.attr for tree in package.values() for node in ast.walk(tree)
+            if isinstance(node, ast.Attribute) and isinstance(node.ctx, ast.Load)
+        }
+        self.assertLessEqual(read, named | assigned | METHODS)
+
+    def test_attributes_are_assigned_through_local_names(self):
+        for name, tree in trees().items():
+            imported = {alias.name for top in tree.body if isinstance(top, ast.ImportFrom) for alias in top.names}
+            tops = imported | {top.name for top in tree.body if hasattr(top, "name")}
+            tops |= {top.targets[0].id for top in tree.body if isinstance(top, ast.Assign)}
+            for node in ast.walk(tree):
+                if isinstance(node, ast.Attribute) and isinstance(node.ctx, ast.Store):
+                    with self.subTest(name, line=node.lineno):
+                        self.assertTrue(is_attribute(node))
+                        while isinstance(node, ast.Attribute):
+                            node = node.value
+                        self.assertNotIn(node.id, tops)
+
+    def test_methods_with_names_of_builtin_methods_are_called_without_keywords(self):
+        for name, tree in trees().items():
+            for node in ast.walk(tree):
+                if isinstance(node, ast.Call) and isinstance(node.func, ast.Attribute) and node.func.attr in METHODS:
+                    with self.subTest(name, line=node.lineno):
+                        self.assertEqual(node.keywords, [])
+
+    def test_what_stands_in_finally_and_exit(self):
+        for name, tree in trees().items():
+            rows = [row for node in ast.walk(tree) if isinstance(node, ast.Try) for row in node.finalbody]
+            rows += [
+                row for node in ast.walk(tree)
+                if isinstance(node, ast.FunctionDef) and node.name == "__exit__" for row in node.body
+            ]
+            for row in rows:
+                with self.subTest(name, line=row.lineno):
+                    self.assertIsInstance(row, ast.Assign)
+                    target = row.targets[0]
+                    targets = target.elts if isinstance(target, ast.Tuple) else [target]
+                    worths = row.value.elts if isinstance(row.value, ast.Tuple) else [row.value]
+                    self.assertEqual(len(targets), len(worths))
+                    self.assertTrue(all(is_attribute(part) for part in targets))
+                    self.assertTrue(all(isinstance(part, ast.Constant) or is_attribute(part) for part in worths))
+
+    def test_own_and_few_errors_are_caught(self):
+        package = trees()
+        own = {node.name for node in classes_of(package)}
+        for name, tree in package.items():
+            for node in ast.walk(tree):
+                if isinstance(node, ast.ExceptHandler):
+                    with self.subTest(name, line=node.lineno):
+                        caught = node.type.elts if isinstance(node.type, ast.Tuple) else [node.type]
+                        self.assertLessEqual({part.id for part in caught}, own | {"KeyError", "ZeroDivisionError"})
+                if isinstance(node, ast.Raise) and node.exc is not None:
+                    with self.subTest(name, line=node.lineno):
+                        self.assertIsInstance(node.exc, ast.Call)
+                        self.assertIn(node.exc.func.id, own)
+
+
 class InterfaceTest(unittest.TestCase):
     def test_defined_in_its_file_with_its_parameters(self):
         package = trees()
@@ -262,6 +356,14 @@ class InterfaceTest(unittest.TestCase):
                 with self.subTest(module, name=name):
                     self.assertIn(name, defined)
                     self.assertEqual(defined[name], expected)
+
+    def test_methods_stand_in_their_class(self):
+        package = trees()
+        for (module, name), listed in METHODS_OF.items():
+            found = methods(next(top for top in package[module].body if getattr(top, "name", None) == name))
+            for method, expected in listed.items():
+                with self.subTest(module, name=name, method=method):
+                    self.assertEqual(parameters(found[method])[1:], expected)
 
 
 if __name__ == "__main__":

@@ -3,14 +3,8 @@ import unittest
 
 from shownshort.errors import InvalidRule, InvalidWidth
 from shownshort.names import Namer
-from tests.helper import SHORT, assert_equal_both_ways, assert_refused
+from tests.helper import NO_RULES, RULES, SHORT, assert_equal_both_ways, assert_refused
 
-RULES = ("count", "free", "tight")
-NO_RULES = (
-    "", "Count", "COUNT", "counts", "coun", " free", "free ", "tight\n", "end", "start", "middle", "count free", "A" * 400,
-    b"count", b"", 0, 1, -1, 10 ** 19, True, False, None, (), ("count",), RULES, [], ["free"], list(RULES), {},
-    {"free": "free"}, {"tight"}, str, object(), SHORT, Namer("free", 8),
-)
 NO_WIDTHS = (
     5, 41, 0, -6, -1, 10 ** 19, -(10 ** 19), True, False, None, "", "8", b"8", (), (8,), [], [8], {}, {8: 8}, {8}, int,
     object(), SHORT, Namer("free", 8),

@@ -4,7 +4,9 @@ import unittest
 
 from shownshort.errors import InvalidPlace, InvalidTexts, NotANamer
 from shownshort.names import Namer, meeting, names, possible_names
-from tests.helper import NO_TEXTS, ROW, SHORT, assert_examples_hold, assert_refused, text_of
+from tests.helper import (
+    NAMER, NO_NAMERS, NO_TEXTS, RULES, SHORT, TROUBLE, assert_examples_hold, assert_refused, modelled_name, text_of,
+)
 
 EXAMPLES = r"""
 >>> from shownshort.names import Namer, meeting, names, possible_names
@@ -15,37 +17,7 @@ EXAMPLES = r"""
 [None, None, ('a~2', 'a~2~2'), ('a', 'a~2', 'a~3')]
 """
 
-RULES = ("count", "free", "tight")
-NAMER = Namer("free", 8)
 TEXTS = ("a", "b", "a")
-NO_NAMERS = (
-    None, 0, 8, True, "", "free", b"free", (), ("free", 8), (NAMER,), [], [NAMER], {}, {"rule": "free"}, set(), Namer,
-    object(), SHORT, ROW, repr(NAMER), ValueError("free"),
-)
-# Bases that meet each other, of texts with fewer and with more signs than the width 6, and such as look like names.
-TROUBLE = (
-    "", "~2", "~3", "a", "a~2", "a~3", "a~2~2", "abcd", "abcd~2", "abcd~3", "abcde", "abcdf", "abcde~2", "abcdef",
-    "abcdefg", "abcdef~2", "abcd~2x", "abcdeg", "~2~2", "abcd~2~2",
-)
-
-
-def modelled_name(namer, text, there):
-    """The name of a text that comes where pairs of texts and names are there, as [10] says it."""
-    base = "".join(sign for place, sign in enumerate(text) if place < namer.width)
-
-    def with_number(number):
-        for left_out in range(len(base) + 1):
-            name = base[:len(base) - left_out] + "~" + str(number)
-            if namer.rule != "tight" or len(name) <= namer.width:
-                return name
-
-    if namer.rule == "count":
-        same = [other for other, _ in there if other[:namer.width] == base]
-        return with_number(len(same) + 1) if same else base
-    taken = [name for _, name in there]
-    if base not in taken:
-        return base
-    return next(with_number(number) for number in itertools.count(2) if with_number(number) not in taken)
 
 
 def modelled_names(namer, texts):

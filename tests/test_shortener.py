@@ -3,7 +3,7 @@ import unittest
 
 from shownshort.errors import InvalidMark, InvalidNumber
 from shownshort.shorteners import Shortener
-from tests.helper import SIGNS, WITHOUT_SIGNS, assert_equal_both_ways, assert_refused
+from tests.helper import NO_MARKS, SIGNS, assert_equal_both_ways, assert_refused
 
 TOLD = (
     (8, 3, 2, "..."), (0, 0, 0, ""), (40, 40, 40, "~~~"), (0, 40, 0, "a"), (40, 0, 40, "0z"), (1, 2, 3, "..."),
@@ -12,10 +12,6 @@ TOLD = (
 NO_NUMBERS = (
     -1, 41, -40, 10 ** 19, -(10 ** 19), True, False, "8", "", "a", None, (8,), (), [8], [], {}, {8: 8}, {8}, b"8", b"",
     int, len, object(), Shortener(8, 3, 2, "..."),
-)
-NO_MARKS = WITHOUT_SIGNS + (
-    "....", "abcd", "~" * 400, "A" * 400, b"", b"a", b"...", 0, 1, -1, True, False, None, (), ("a",), (".", ".", "."),
-    [], ["a"], [".", "."], {}, {"a": "b"}, {"a"}, str, object(), Shortener(8, 3, 2, "..."),
 )
 
 

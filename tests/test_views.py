@@ -6,8 +6,8 @@ from shownshort.errors import InvalidLength, InvalidViews
 from shownshort.shorteners import Shortener, plan, show, widest
 from shownshort.views import least_text, lengths, number_of, only_text, signs
 from tests.helper import (
-    NO_LENGTHS, NO_TEXTS, ROW, SHORT, SIGNS, assert_examples_hold, assert_refused, modelled_row, small_rows, text_of,
-    texts_up_to, wrong_rows,
+    NO_LENGTHS, NO_TEXTS, ROW, SHORT, SIGNS, assert_examples_hold, assert_refused, modelled_row, one, small_rows,
+    text_of, texts_up_to, wrong_rows,
 )
 
 EXAMPLES = r"""
@@ -26,10 +26,6 @@ WITHOUT_LENGTH = (lengths, only_text, least_text)
 WITH_LENGTH = (signs, number_of)
 VIEW = (ROW, "abc...ij")
 VIEWS = (VIEW,)
-
-
-def one(limit, head, tail, mark):
-    return (Shortener(limit, head, tail, mark),)
 
 
 def told_by(possible):
