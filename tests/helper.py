@@ -18,6 +18,16 @@ def text_of(length):
     return "".join(SIGNS[7 * place % len(SIGNS)] for place in range(length))
 
 
+class Odd:
+    """Is equal to everything, and cannot be hashed."""
+
+    __hash__ = None
+
+    def __eq__(self, other):
+        return True
+
+
+ODD = Odd()
 SHORT = Shortener(8, 3, 2, "...")
 ROW = (SHORT,)
 
@@ -25,17 +35,19 @@ NO_ROWS = (
     None, 0, 1, True, "", "abc", b"", [], [SHORT], [SHORT] * 4, {}, {SHORT.told: SHORT}, set(), SHORT, Shortener,
     object(), (), ROW * 5, ROW * 6, (None,) * 5, ROW * 4 + (None,), ("a",) + ROW * 4,
 )
-NO_SHORTENERS = (None, 0, True, "", "abc", SHORT.told, ROW, [SHORT], {}, Shortener, object())
+NO_SHORTENERS = (None, 0, True, "", "abc", SHORT.told, ROW, [SHORT], {}, Shortener, object(), ODD)
 NO_TEXTS = WITHOUT_SIGNS + (
     text_of(201), "a" * 400, text_of(199) + "A", "A" + text_of(199), text_of(100) + " " + text_of(99), b"", b"abc", 0, 7,
     True, False, None, (), ("a",), [], ["a", "b"], {}, {"a": "b"}, {"a"}, str, object(), SHORT, ROW,
+    ODD,
 )
 NO_LENGTHS = (
     -1, 501, -500, 10 ** 19, True, False, None, "", "5", "abc", b"5", (), (5,), [], [5], {}, {5}, int, object(), SHORT,
+    ODD,
 )
 NO_MARKS = WITHOUT_SIGNS + (
     "....", "abcd", "~" * 400, "A" * 400, b"", b"a", b"...", 0, 1, -1, True, False, None, (), ("a",), (".", ".", "."),
-    [], ["a"], [".", "."], {}, {"a": "b"}, {"a"}, str, object(), SHORT,
+    [], ["a"], [".", "."], {}, {"a": "b"}, {"a"}, str, object(), SHORT, ODD,
 )
 
 RULES = ("count", "free", "tight")
@@ -43,11 +55,11 @@ NAMER = Namer("free", 8)
 NO_RULES = (
     "", "Count", "COUNT", "counts", "coun", " free", "free ", "tight\n", "end", "start", "middle", "count free", "A" * 400,
     b"count", b"", 0, 1, -1, 10 ** 19, True, False, None, (), ("count",), RULES, [], ["free"], list(RULES), {},
-    {"free": "free"}, {"tight"}, str, object(), SHORT, NAMER,
+    {"free": "free"}, {"tight"}, str, object(), SHORT, NAMER, ODD,
 )
 NO_NAMERS = (
     None, 0, 8, True, "", "free", b"free", (), ("free", 8), (NAMER,), [], [NAMER], {}, {"rule": "free"}, set(), Namer,
-    object(), SHORT, ROW, repr(NAMER), ValueError("free"),
+    object(), SHORT, ROW, repr(NAMER), ValueError("free"), ODD,
 )
 # Bases that meet each other, of texts with fewer and with more signs than the width 6, and such as look like names.
 TROUBLE = (
@@ -56,17 +68,18 @@ TROUBLE = (
 )
 NO_NAMES = (
     "b", "A", "a~", "a ", " a", "~2", "a" * 400, b"a", b"", 0, 1, True, False, None, (), ("a",), [], ["a"], {}, {"a": "a"},
-    {"a"}, str, object(), SHORT, NAMER,
+    {"a"}, str, object(), SHORT, NAMER, ODD,
 )
 NO_SHELVES = (
     None, 0, 1, True, "", "abc", b"ab", (), (Shelf(NAMER),), [], [Shelf(NAMER)], {}, set(), Shelf, object(), NAMER, SHORT,
-    Shelf(NAMER).trial(), repr(Shelf(NAMER)), ValueError("shelf"),
+    Shelf(NAMER).trial(), repr(Shelf(NAMER)), ValueError("shelf"), ODD,
 )
 NO_DEEDS = (
     None, 0, 1, True, "", "add", "ab", b"ab", (), ("add",), ("remove",), ("add", "a", "b"), ("add", "a", None),
     ("remove", "a", "a"), ["add", "a"], ["remove", "a"], {"add": "a"}, {"add", "a"}, ("Add", "a"), ("adds", "a"),
     ("", "a"), ("add ", "a"), ("undo", "a"), ("do_all", ()), ("a", "add"), (b"add", "a"), (None, "a"), (True, "a"),
-    (0, "a"), (["add"], "a"), (("add",), "a"), (("add", "a"), ("add", "a")), ({}, "a"), object(), tuple, SHORT, NAMER,
+    (0, "a"), (["add"], "a"), (("add",), "a"), (("add", "a"), ("add", "a")), ({}, "a"), object(), tuple, SHORT, NAMER, ODD,
+    (ODD, "a"), (ODD, ODD),
 )
 
 

@@ -9,7 +9,7 @@ from shownshort.shelves import Shelf
 from shownshort.shorteners import Shortener
 from shownshort.views import number_of
 from tests.helper import (
-    NO_MARKS, NO_TEXTS, ROW, SHORT, SIGNS, great_rows, modelled_row, one, small_rows, text_of, texts_up_to,
+    NO_MARKS, NO_TEXTS, ODD, ROW, SHORT, SIGNS, great_rows, modelled_row, one, small_rows, text_of, texts_up_to,
 )
 
 TOLD = ((8, 3, 2, "..."),)
@@ -28,15 +28,6 @@ WITHOUT_PAPER = ("alike", "stable", "impossible")
 WITH_TEXT = ("unlike", "unstable", "possible")
 
 
-class Odd:
-    """Is equal to everything, and cannot be hashed."""
-
-    __hash__ = None
-
-    def __eq__(self, other):
-        return True
-
-
 def nested(levels):
     told = ()
     for level in range(levels):
@@ -48,7 +39,7 @@ ANYTHING = (
     None, True, False, 0, 1, -1, 8, 9, 10 ** 19, "", "a", "alike", "A", " ", "a" * 400, b"", b"ab", (), ((),), ("a",),
     ("alike",), ("alike", TOLD), ("stable",), ("stable", ()), (None,), (1, 2), ("a", "b"), ("a", "b", "c", "d", "e"), [], [()],
     ["stable", TOLD], {}, {"stable": TOLD}, set(), {"stable"}, frozenset(), TOLD, TOLD[0], SHORT, ROW, Namer("free", 8),
-    Shelf(Namer("free", 8)), object(), Odd(), (Odd(), TOLD), (Odd(),) * 3, ([], TOLD), ({}, TOLD, TOLD), (set(), TOLD),
+    Shelf(Namer("free", 8)), object(), ODD, (ODD, TOLD), (ODD,) * 3, ([], TOLD), ({}, TOLD, TOLD), (set(), TOLD),
     (b"stable", TOLD), (None, TOLD), (("stable",), TOLD), holds, str, ValueError("x"), nested(15), nested(14),
 )
 
@@ -257,7 +248,7 @@ class TextPapersTest(unittest.TestCase):
             (pair, True), (pair[::-1], True), (pair + pair, False), (pair[:1], False), (list(pair), False), (pair[0], False),
             ((pair[0], pair[0]), False), (("abc", "abc"), False), (("abc", "abd"), False), ((pair[0], "abcdefghik"), False),
             ((pair[0], None), False), ((None, pair[1]), False), ((pair[0], list(pair[1])), False), ((pair, pair), False),
-            ((pair[0], "abcDefghij"), False), (("abcDefghij", pair[1]), False), (("", ""), False), ((), False), (("", "a"), False),
+            ((pair[0], "abcDefghij"), False), (("abcDefghij", pair[1]), False), (("", ""), False), ((), False), (("", "a"), False), (pair + ("abcxyz..ij",), False),
             ({pair[0]: pair[1]}, False), (set(pair), False), ((b"a", b"b"), False),
         ):
             self.assert_holds(claim, paper, expected)

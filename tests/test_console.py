@@ -6,7 +6,7 @@ from shownshort.console import Console
 from shownshort.errors import InvalidLine, NotANamer
 from shownshort.names import Namer
 from tests.helper import (
-    NAMER, NO_NAMERS, RULES, SHORT, TROUBLE, ModelledShelf, assert_equal_both_ways, assert_examples_hold, assert_refused,
+    NAMER, NO_NAMERS, ODD, RULES, SHORT, TROUBLE, ModelledShelf, assert_equal_both_ways, assert_examples_hold, assert_refused,
     text_of,
 )
 
@@ -26,7 +26,7 @@ NO_LINES = (
     "Meet", "meets", "meet\n", "do_all", "trial", "texts", "none", "ok", "refused", "quit", "help", "add a\nundo x y", "?", "\n",
     "\x00", "a" * 400, "add a b" * 50, "undo\nundo", "undo names",
     None, 0, 1, True, False, b"", b"undo", b"add a", (), ("add", "a"), ("undo",), [], ["add", "a"], ["undo"], {}, {"add": "a"},
-    {"undo"}, str, object(), SHORT, NAMER, Console(NAMER), 10 ** 19,
+    {"undo"}, str, object(), SHORT, NAMER, Console(NAMER), 10 ** 19, ODD,
 )
 # Words for `add` that are no texts of at most 200 signs.
 NO_TEXT_WORDS = (

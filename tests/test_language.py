@@ -361,6 +361,18 @@ class ClassesTest(unittest.TestCase):
                         self.assertIn(node.exc.func.id, own)
 
 
+class TestFilesTest(unittest.TestCase):
+    def test_each_holds_tests_and_each_module_of_the_interface_is_imported_by_one(self):
+        imported = set()
+        for path in sorted(pathlib.Path(__file__).resolve().parent.glob("test_*.py")):
+            tree = ast.parse(path.read_text(encoding="utf-8"))
+            cases = [top for top in tree.body if isinstance(top, ast.ClassDef)]
+            with self.subTest(path.name):
+                self.assertTrue([name for node in cases for name in methods(node) if name.startswith("test_")])
+            imported |= {node.module for node in ast.walk(tree) if isinstance(node, ast.ImportFrom)}
+        self.assertLessEqual({f"shownshort.{module}" for module in INTERFACE if module != "errors"}, imported)
+
+
 class InterfaceTest(unittest.TestCase):
     def test_defined_in_its_file_with_its_parameters(self):
         package = trees()

@@ -7,7 +7,7 @@ from shownshort.errors import InvalidMark, InvalidRow, InvalidRule, InvalidTexts
 from shownshort.lists import fitting, groups, member, narrowest, tells_apart, widths
 from shownshort.shorteners import Shortener, show, widest
 from tests.helper import (
-    NAMER, NO_MARKS, NO_TEXTS, ROW, RULES, SHORT, SIGNS, assert_examples_hold, assert_refused, modelled, modelled_row, one,
+    NAMER, NO_MARKS, NO_TEXTS, ODD, ROW, RULES, SHORT, SIGNS, assert_examples_hold, assert_refused, modelled, modelled_row, one,
     small_rows, text_of, wrong_rows,
 )
 
@@ -26,7 +26,7 @@ TEXTS = ("alpha1", "alpha2", "alpha10")
 NO_KINDS = (
     "", "End", "END", "ends", "en", " end", "start ", "middle\n", "end start", "A" * 400, *RULES, b"end", b"", 0, 1, -1,
     10 ** 19, True, False, None, (), ("end",), KINDS, [], ["end"], list(KINDS), {}, {"end": "end"}, {"end"}, str, object(),
-    SHORT, NAMER,
+    SHORT, NAMER, ODD,
 )
 NO_WIDTHS = (
     -1, 41, 42, -40, 10 ** 19, -(10 ** 19), True, False, None, "", "8", b"8", (), (8,), [], [8], {}, {8: 8}, {8}, int,
